@@ -1,0 +1,125 @@
+package waymark_test
+
+import (
+	"math"
+	"strings"
+	"testing"
+
+	"waymark/api"
+	"waymark/waymark"
+)
+
+func fullTable(t *testing.T) *waymark.Table {
+	t.Helper()
+	x := newTable(t, 256)
+	for i := range api.MaxGroups {
+		mustGroup(t, x, i, i, i+1, 65535)
+	}
+	return x
+}
+
+func TestP1WrongHopsGoAheadOfFull(t *testing.T) {
+	x := fullTable(t)
+	for _, hops := range [][]int{nil, {}, make([]int, 9), {-1}, {65536}} {
+		if g, e := x.Group(hops); g != 0 || e != api.ErrHops {
+			t.Errorf("Group(%v) of a full table = %d, %d, want 0, ErrHops", hops, g, e)
+		}
+	}
+	if g, e := x.Group([]int{0}); g != 0 || e != api.ErrFull {
+		t.Errorf("Group of a full table = %d, %d, want 0, ErrFull", g, e)
+	}
+}
+
+// P1's order for Format: family, length, address.
+func TestP1PrefixErrorsInTheirOrder(t *testing.T) {
+	checkFormatError(t, prefix(5, 1, math.MaxUint64, 200), api.ErrFamily)
+	checkFormatError(t, prefix(api.V4, 1, math.MaxUint64, 200), api.ErrLen)
+	checkFormatError(t, prefix(api.V4, 1, math.MaxUint64, 20), api.ErrAddr)
+	checkFormatError(t, prefix(api.V6, 1, math.MaxUint64, 200), api.ErrLen)
+	checkFormatError(t, prefix(api.V6, 1, math.MaxUint64, 20), api.ErrAddr)
+}
+
+func TestP1ErrorsLeaveNothingBesideThem(t *testing.T) {
+	if p, e := waymark.Parse("10.1.0.0/15"); p != (api.Prefix{}) || e != api.ErrText {
+		t.Errorf("Parse = %+v, %d, want nothing, ErrText", p, e)
+	}
+	if x, e := waymark.New(257, 1, 1); x != nil || e != api.ErrLimit {
+		t.Errorf("New = %v, %d, want nil, ErrLimit", x, e)
+	}
+	x := fullTable(t)
+	if g, e := x.Group([]int{7, 65536}); g != 0 || e != api.ErrHops {
+		t.Errorf("Group = %d, %d, want 0, ErrHops", g, e)
+	}
+	if g, e := x.Group([]int{7}); g != 0 || e != api.ErrFull {
+		t.Errorf("Group = %d, %d, want 0, ErrFull", g, e)
+	}
+	if l, e := x.Hops(32); len(l) != 0 || e != api.ErrGroup {
+		t.Errorf("Hops = %v, %d, want none, ErrGroup", l, e)
+	}
+}
+
+func TestP1ErrorsChangeNothing(t *testing.T) {
+	full := fullTable(t)
+	part := newTable(t, 1)
+	for i := range 6 {
+		mustGroup(t, part, i, 10+i, i)
+	}
+	mustDrop(t, part, 3)
+	for _, x := range []*waymark.Table{full, part, newTable(t, 1)} {
+		before := show(x)
+		for _, hops := range [][]int{nil, {}, make([]int, 9), make([]int, 5000), {-1}, {1, 65536}, {math.MinInt}, {1, 2, 3, 4, 5, 6, 7, math.MaxInt}} {
+			if _, e := x.Group(hops); e == api.OK {
+				t.Errorf("Group of %d wrong hops is OK", len(hops))
+			}
+		}
+		for _, g := range []int{-1, 32, 33, math.MaxInt, math.MinInt} {
+			x.Hops(g)
+			if e := x.Drop(g); e == api.OK {
+				t.Errorf("Drop(%d) is OK", g)
+			}
+		}
+		if show(x) != before {
+			t.Errorf("calls with errors made of %v this: %v", before, show(x))
+		}
+	}
+	before := show(full)
+	full.Group([]int{1})
+	if show(full) != before {
+		t.Errorf("a group too many made of %v this: %v", before, show(full))
+	}
+	mustGroup(t, part, 3, 1)
+	mustGroup(t, part, 6, 1)
+}
+
+func TestP1EveryCallEnds(t *testing.T) {
+	texts := []string{"", "\x00", "\xff\xfe", strings.Repeat("0", 1<<22), strings.Repeat("ffff:", 1<<20), strings.Repeat("1.", 1<<20), strings.Repeat("/", 1<<22)}
+	for _, text := range texts {
+		if p, e := waymark.Parse(text); p != (api.Prefix{}) || e != api.ErrText {
+			t.Errorf("Parse(%.40q) = %+v, %d, want nothing, ErrText", text, p, e)
+		}
+	}
+	numbers := []int{math.MinInt, math.MinInt + 1, -1 << 32, -129, -64, -1, 0, 1, 4, 6, 31, 32, 33, 63, 64, 65, 127, 128, 129, 1 << 32, math.MaxInt - 1, math.MaxInt}
+	words := []uint64{0, 1, 1 << 31, 1<<32 - 1, 1 << 32, 1 << 63, math.MaxUint64}
+	for _, n := range numbers {
+		for _, family := range numbers {
+			for _, w := range words {
+				waymark.Format(prefix(family, w, 0, n))
+				waymark.Format(prefix(family, 0, w, n))
+				waymark.Format(prefix(family, w, w, n))
+			}
+		}
+		for _, w := range words {
+			waymark.New(n, w, uint32(w))
+		}
+	}
+	x := newTable(t, 1)
+	for _, n := range numbers {
+		x.Group([]int{n})
+		x.Group([]int{0, n, 0})
+		x.Hops(n)
+		x.Drop(n)
+	}
+	for _, n := range []int{0, 1, 7, 8, 9, 1000, 1 << 22} {
+		x.Group(make([]int, n))
+	}
+}
