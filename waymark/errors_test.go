@@ -56,6 +56,70 @@ func TestP1ErrorsLeaveNothingBesideThem(t *testing.T) {
 	if l, e := x.Hops(32); len(l) != 0 || e != api.ErrGroup {
 		t.Errorf("Hops = %v, %d, want none, ErrGroup", l, e)
 	}
+	mustPut(t, x, "10.0.0.0/8", 3)
+	mustPut(t, x, "0:0:0:0:0:0:0:0/0", 3)
+	for _, family := range wrongFamilies {
+		if l, e := x.Dump(family); len(l) != 0 || e != api.ErrFamily {
+			t.Errorf("Dump(%d) = %v, %d, want none, ErrFamily", family, l, e)
+		}
+	}
+}
+
+func TestP1RouteErrorsInTheirOrder(t *testing.T) {
+	full := tableOfTwo(t, 1)
+	mustPut(t, full, "10.0.0.0/8", 0)
+	for _, c := range []struct {
+		r         api.Route
+		put, take api.Errno
+	}{
+		{api.Route{Prefix: prefix(5, 1, 1, 200), Group: -1}, api.ErrFamily, api.ErrFamily},
+		{api.Route{Prefix: prefix(api.V4, 1, 1, 200), Group: -1}, api.ErrLen, api.ErrLen},
+		{api.Route{Prefix: prefix(api.V4, 1, 1, 20), Group: -1}, api.ErrAddr, api.ErrAddr},
+		{api.Route{Prefix: prefix(api.V4, 0, 0, 20), Group: -1}, api.ErrGroup, api.ErrRoute},
+		{api.Route{Prefix: prefix(api.V4, 0, 0, 20), Group: 0}, api.ErrFull, api.ErrRoute},
+	} {
+		checkPut(t, full, c.r, c.put)
+		checkTake(t, full, c.r.Prefix, c.take)
+		mustFail(t, full, 0, c.put, api.Change{Kind: api.Put, Route: c.r})
+		mustFail(t, full, 0, c.take, api.Change{Kind: api.Take, Route: c.r})
+		mustFail(t, full, 0, api.ErrKind, api.Change{Kind: 3, Route: c.r})
+	}
+}
+
+func TestP1RouteErrorsChangeNothing(t *testing.T) {
+	part, full := tableOfRoutes(t), tableOfTwo(t, 2)
+	mustPut(t, full, "10.0.0.0/8", 0)
+	mustPut(t, full, "1:0:0:0:0:0:0:0/16", 1)
+	for _, x := range []*waymark.Table{tableOfTwo(t, 1), part, full} {
+		before := show(x)
+		for _, c := range wrongPrefixes() {
+			checkPut(t, x, api.Route{Prefix: c.p}, c.e)
+			checkTake(t, x, c.p, c.e)
+		}
+		for _, g := range wrongGroups {
+			checkPut(t, x, route(t, "10.0.0.0/8", g), api.ErrGroup)
+			checkPut(t, x, route(t, "99.0.0.0/8", g), api.ErrGroup)
+		}
+		checkTake(t, x, read(t, "99.0.0.0/8"), api.ErrRoute)
+		for _, family := range wrongFamilies {
+			x.Dump(family)
+		}
+		mustFail(t, x, 1, api.ErrKind, put(t, "10.0.0.0/8", 1), api.Change{})
+		if show(x) != before {
+			t.Errorf("calls with errors made of %v this: %v", before, show(x))
+		}
+	}
+	before := show(full)
+	checkPut(t, full, route(t, "99.0.0.0/8", 0), api.ErrFull)
+	checkDrop(t, full, 0, api.ErrBusy)
+	checkDrop(t, full, 1, api.ErrBusy)
+	if show(full) != before {
+		t.Errorf("calls of a full table made of %v this: %v", before, show(full))
+	}
+	// Nor is room lost or won by calls with errors.
+	mustPut(t, part, "12.0.0.0/8", 0)
+	mustPut(t, part, "13.0.0.0/8", 0)
+	checkPut(t, part, route(t, "14.0.0.0/8", 0), api.ErrFull)
 }
 
 func TestP1ErrorsChangeNothing(t *testing.T) {
@@ -91,6 +155,35 @@ func TestP1ErrorsChangeNothing(t *testing.T) {
 	mustGroup(t, part, 6, 1)
 }
 
+var (
+	numbers = []int{math.MinInt, math.MinInt + 1, -1 << 32, -129, -64, -1, 0, 1, 2, 4, 6, 31, 32, 33, 63, 64, 65, 127, 128, 129, 1 << 32, math.MaxInt - 1, math.MaxInt}
+	words   = []uint64{0, 1, 1 << 31, 1<<32 - 1, 1 << 32, 1 << 63, math.MaxUint64}
+)
+
+func TestP1EveryRouteCallEnds(t *testing.T) {
+	for _, limit := range []int{1, 20, 256} {
+		x := tableOfTwo(t, limit)
+		for _, family := range numbers {
+			x.Dump(family)
+			for _, length := range numbers {
+				for _, w := range words {
+					for _, g := range []int{math.MinInt, -1, 0, 1, 2, 31, 32, math.MaxInt} {
+						r := api.Route{Prefix: prefix(family, w, w, length), Group: g}
+						x.Put(r)
+						r.Prefix.Addr.Hi = 0
+						x.Put(r)
+						x.Batch([]api.Change{{Kind: g, Route: r}, {Kind: api.Take, Route: r}, {Kind: length, Route: r}})
+					}
+					x.Take(prefix(family, w, w, length))
+				}
+			}
+		}
+		for _, n := range []int{0, 1, 257, 1 << 20} {
+			x.Batch(make([]api.Change, n))
+		}
+	}
+}
+
 func TestP1EveryCallEnds(t *testing.T) {
 	texts := []string{"", "\x00", "\xff\xfe", strings.Repeat("0", 1<<22), strings.Repeat("ffff:", 1<<20), strings.Repeat("1.", 1<<20), strings.Repeat("/", 1<<22)}
 	for _, text := range texts {
@@ -98,8 +191,6 @@ func TestP1EveryCallEnds(t *testing.T) {
 			t.Errorf("Parse(%.40q) = %+v, %d, want nothing, ErrText", text, p, e)
 		}
 	}
-	numbers := []int{math.MinInt, math.MinInt + 1, -1 << 32, -129, -64, -1, 0, 1, 4, 6, 31, 32, 33, 63, 64, 65, 127, 128, 129, 1 << 32, math.MaxInt - 1, math.MaxInt}
-	words := []uint64{0, 1, 1 << 31, 1<<32 - 1, 1 << 32, 1 << 63, math.MaxUint64}
 	for _, n := range numbers {
 		for _, family := range numbers {
 			for _, w := range words {

@@ -1,6 +1,7 @@
 package waymark_test
 
 import (
+	"fmt"
 	"slices"
 	"testing"
 
@@ -45,20 +46,75 @@ func mustHaveNoGroup(t *testing.T, x *waymark.Table, group int) {
 	}
 }
 
-// shown: all that can be seen of the groups of a table.
-type shown [api.MaxGroups]struct {
-	hops [api.MaxHops]int
-	len  int
-	e    api.Errno
+// read: the prefix of a text.
+func read(t *testing.T, text string) api.Prefix {
+	t.Helper()
+	p, e := waymark.Parse(text)
+	if e != api.OK {
+		t.Fatalf("Parse(%q) = %d", text, e)
+	}
+	return p
 }
 
-func show(x *waymark.Table) shown {
-	var s shown
-	for g := range s {
+func route(t *testing.T, text string, group int) api.Route {
+	t.Helper()
+	return api.Route{Prefix: read(t, text), Group: group}
+}
+
+func mustPut(t *testing.T, x *waymark.Table, text string, group int) {
+	t.Helper()
+	checkPut(t, x, route(t, text, group), api.OK)
+}
+
+func checkPut(t *testing.T, x *waymark.Table, r api.Route, want api.Errno) {
+	t.Helper()
+	if e := x.Put(r); e != want {
+		t.Fatalf("Put(%+v) = %d, want %d", r, e, want)
+	}
+}
+
+func mustTake(t *testing.T, x *waymark.Table, text string) {
+	t.Helper()
+	checkTake(t, x, read(t, text), api.OK)
+}
+
+func checkTake(t *testing.T, x *waymark.Table, p api.Prefix, want api.Errno) {
+	t.Helper()
+	if e := x.Take(p); e != want {
+		t.Fatalf("Take(%+v) = %d, want %d", p, e, want)
+	}
+}
+
+func checkDrop(t *testing.T, x *waymark.Table, group int, want api.Errno) {
+	t.Helper()
+	if e := x.Drop(group); e != want {
+		t.Fatalf("Drop(%d) = %d, want %d", group, e, want)
+	}
+}
+
+// mustDump: want are the routes as texts with their groups behind them, as "10.0.0.0/8 0".
+func mustDump(t *testing.T, x *waymark.Table, family int, want ...string) {
+	t.Helper()
+	l, e := x.Dump(family)
+	got := []string{}
+	for _, r := range l {
+		got = append(got, fmt.Sprintf("%s %d", written(r.Prefix), r.Group))
+	}
+	if !slices.Equal(got, want) || e != api.OK {
+		t.Fatalf("Dump(%d) = %q, %d, want %q, OK", family, got, e, want)
+	}
+}
+
+// show: all that can be seen of the groups and routes of a table.
+func show(x *waymark.Table) string {
+	s := ""
+	for g := range api.MaxGroups {
 		l, e := x.Hops(g)
-		copy(s[g].hops[:], l)
-		s[g].len = len(l)
-		s[g].e = e
+		s += fmt.Sprintln("group", g, l, e)
+	}
+	for _, family := range []int{api.V4, api.V6} {
+		l, e := x.Dump(family)
+		s += fmt.Sprintln("family", family, l, e)
 	}
 	return s
 }

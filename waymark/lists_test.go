@@ -106,6 +106,118 @@ func TestP2NoLaterCallWritesIntoAList(t *testing.T) {
 	}
 }
 
+// noRoute: what no table holds.
+var noRoute = api.Route{Prefix: prefix(-77, 77, 77, -77), Group: -77}
+
+// scribbleRoutes writes over a list and all its spare room.
+func scribbleRoutes(l []api.Route) {
+	l = l[:cap(l)]
+	for i := range l {
+		l[i] = noRoute
+	}
+}
+
+func TestP2ChangesHandedInAreNotWrittenInto(t *testing.T) {
+	// The first four are good, the one behind them is not.
+	room := []api.Change{put(t, "12.0.0.0/8", 1), take(t, "10.0.0.0/8"), put(t, "11.0.0.0/8", 0), put(t, "10.0.0.0/8", 1), {Kind: 9}, {}, {}, {}}
+	before := slices.Clone(room)
+	for n := range len(room) + 1 {
+		x := tableOfRoutes(t)
+		x.Batch(room[:n])
+		mustPut(t, x, "13.0.0.0/8", 0)
+		x.Take(read(t, "11.0.0.0/8"))
+		x.Batch(room[:n])
+		if !slices.Equal(room, before) {
+			t.Errorf("Batch of %d changes made of %v this: %v", n, before, room)
+		}
+	}
+}
+
+func TestP2ChangesHandedInAreNotKept(t *testing.T) {
+	x := tableOfTwo(t, 10)
+	l := []api.Change{put(t, "12.0.0.0/8", 1), put(t, "10.0.0.0/8", 0), put(t, "1:0:0:0:0:0:0:0/16", 1)}
+	mustBatch(t, x, l...)
+	for i := range l {
+		l[i] = api.Change{Kind: 9, Route: noRoute}
+	}
+	mustDump(t, x, api.V4, "10.0.0.0/8 0", "12.0.0.0/8 1")
+	mustDump(t, x, api.V6, "1:0:0:0:0:0:0:0/16 1")
+}
+
+func TestP2DumpsAreFresh(t *testing.T) {
+	for n := range 40 {
+		x := tableOfTwo(t, 50)
+		for i := range n {
+			checkPut(t, x, api.Route{Prefix: host(i), Group: i % 2}, api.OK)
+		}
+		before := show(x)
+		for _, family := range []int{api.V4, api.V6} {
+			first, _ := x.Dump(family)
+			second, _ := x.Dump(family)
+			want := slices.Clone(second)
+			scribbleRoutes(first)
+			if !slices.Equal(second, want) {
+				t.Errorf("writing into one list of routes made of another: %v", second)
+			}
+			scribbleRoutes(second)
+			scribbleRoutes(append(second, noRoute))
+		}
+		if show(x) != before {
+			t.Errorf("writing into lists of routes made of %v this: %v", before, show(x))
+		}
+		// What was written behind a list does not come out as a route, nor take its room.
+		for i := n; i < 50; i++ {
+			checkPut(t, x, api.Route{Prefix: host(i), Group: i % 2}, api.OK)
+		}
+		again := tableOfTwo(t, 50)
+		for i := range 50 {
+			checkPut(t, again, api.Route{Prefix: host(i), Group: i % 2}, api.OK)
+		}
+		if show(x) != show(again) {
+			t.Errorf("%d routes, then 50: %v, want %v", n, show(x), show(again))
+		}
+	}
+}
+
+func TestP2NoLaterCallWritesIntoADump(t *testing.T) {
+	x := tableOfRoutes(t)
+	for _, family := range []int{api.V4, api.V6} {
+		l, _ := x.Dump(family)
+		room := l[:cap(l)]
+		before := slices.Clone(room)
+		y := tableOfRoutes(t)
+		mustPut(t, x, "9.0.0.0/8", 1)
+		mustPut(t, x, "0:0:0:0:0:0:0:0/0", 1)
+		mustPut(t, x, "10.0.0.0/8", 1)
+		mustPut(t, x, "1:0:0:0:0:0:0:0/16", 1)
+		mustTake(t, x, "9.0.0.0/8")
+		mustTake(t, x, "0:0:0:0:0:0:0:0/0")
+		mustBatch(t, x, take(t, "10.0.0.0/8"), put(t, "10.0.0.0/8", 0), put(t, "1:0:0:0:0:0:0:0/16", 0), put(t, "3:0:0:0:0:0:0:0/16", 0), take(t, "3:0:0:0:0:0:0:0/16"))
+		mustFail(t, x, 2, api.ErrKind, put(t, "8.0.0.0/8", 0), take(t, "1:0:0:0:0:0:0:0/16"), api.Change{})
+		x.Dump(api.V4)
+		x.Dump(api.V6)
+		if !slices.Equal(room, before) {
+			t.Errorf("later calls made of %v this: %v", before, room)
+		}
+		if show(x) != show(y) {
+			t.Errorf("the table is %v, want %v", show(x), show(y))
+		}
+	}
+}
+
+func TestP2RoutesOfTablesDoNotTouchEachOther(t *testing.T) {
+	one, two := tableOfTwo(t, 2), tableOfTwo(t, 256)
+	mustPut(t, one, "10.0.0.0/8", 0)
+	mustDump(t, two, api.V4)
+	mustPut(t, two, "10.0.0.0/8", 1)
+	mustBatch(t, one, put(t, "11.0.0.0/8", 0), take(t, "10.0.0.0/8"))
+	mustDump(t, two, api.V4, "10.0.0.0/8 1")
+	mustTake(t, two, "10.0.0.0/8")
+	mustDump(t, one, api.V4, "11.0.0.0/8 0")
+	checkDrop(t, two, 0, api.OK)
+	checkDrop(t, one, 0, api.ErrBusy)
+}
+
 func TestP2TablesDoNotTouchEachOther(t *testing.T) {
 	one, two := newTable(t, 1), newTable(t, 256)
 	mustGroup(t, one, 0, 1)
@@ -119,18 +231,21 @@ func TestP2TablesDoNotTouchEachOther(t *testing.T) {
 }
 
 func TestP2SameCallsSameAnswers(t *testing.T) {
-	run := func(x *waymark.Table) shown {
+	run := func(x *waymark.Table) string {
 		for i := range 40 {
 			x.Group([]int{i, i * i})
 			if i%3 == 0 {
 				x.Drop(i / 2)
 			}
+			x.Put(api.Route{Prefix: host(i), Group: i % 5})
+			x.Take(host(i / 3))
+			x.Batch([]api.Change{{Kind: api.Put, Route: api.Route{Prefix: host(i + 50), Group: 1}}, {Kind: api.Take, Route: api.Route{Prefix: host(i / 4)}}})
 		}
 		return show(x)
 	}
-	first := run(newTable(t, 1))
+	first := run(newTable(t, 20))
 	for range 5 {
-		if again := run(newTable(t, 1)); again != first {
+		if again := run(newTable(t, 20)); again != first {
 			t.Errorf("the same calls answered %v, then %v", first, again)
 		}
 	}

@@ -2,8 +2,10 @@
 package waymark
 
 import (
+	"waymark/address"
 	"waymark/api"
 	"waymark/groups"
+	"waymark/routes"
 	"waymark/texts"
 )
 
@@ -13,7 +15,7 @@ type Table struct {
 	seed   uint64
 	own    uint32
 	groups groups.Groups
-	routes []api.Route
+	routes routes.Routes
 }
 
 // Parse reads a prefix (P3).
@@ -49,34 +51,67 @@ func (t *Table) Drop(group int) api.Errno {
 	if !t.groups.Has(group) {
 		return api.ErrGroup
 	}
-	if t.routeHas(group) {
+	if t.routes.HaveGroup(group) {
 		return api.ErrBusy
 	}
 	t.groups.Remove(group)
 	return api.OK
 }
 
-// routeHas tells whether a route has the group.
-func (t *Table) routeHas(group int) bool {
-	for i := 0; i < len(t.routes); i++ {
-		if t.routes[i].Group == group {
-			return true
-		}
+// Put puts a route into the table (P6).
+func (t *Table) Put(r api.Route) api.Errno {
+	e := address.Check(r.Prefix)
+	if e != api.OK {
+		return e
 	}
-	return false
+	if !t.groups.Has(r.Group) {
+		return api.ErrGroup
+	}
+	return t.routes.Put(r, t.limit)
 }
 
-// Put puts a route into the table (P6).
-func (t *Table) Put(r api.Route) api.Errno { return api.OK }
-
 // Take takes a route away (P6).
-func (t *Table) Take(p api.Prefix) api.Errno { return api.OK }
+func (t *Table) Take(p api.Prefix) api.Errno {
+	e := address.Check(p)
+	if e != api.OK {
+		return e
+	}
+	return t.routes.Take(p)
+}
 
 // Dump tells all routes of a family (P6).
-func (t *Table) Dump(family int) ([]api.Route, api.Errno) { return nil, api.OK }
+func (t *Table) Dump(family int) ([]api.Route, api.Errno) {
+	if address.Width(family) == 0 {
+		return nil, api.ErrFamily
+	}
+	return t.routes.Of(family), api.OK
+}
 
 // Batch makes changes, all or none (P7).
-func (t *Table) Batch(l []api.Change) (int, api.Errno) { return 0, api.OK }
+func (t *Table) Batch(l []api.Change) (int, api.Errno) {
+	// The changes are tried on a table with routes of its own, so that none has to be undone.
+	trial := *t
+	trial.routes = t.routes.Copy()
+	for i := 0; i < len(l); i++ {
+		e := trial.change(l[i])
+		if e != api.OK {
+			return i, e
+		}
+	}
+	t.routes = trial.routes
+	return len(l), api.OK
+}
+
+// change makes one change of a batch.
+func (t *Table) change(c api.Change) api.Errno {
+	switch c.Kind {
+	case api.Put:
+		return t.Put(c.Route)
+	case api.Take:
+		return t.Take(c.Route.Prefix)
+	}
+	return api.ErrKind
+}
 
 // Lengths tells the lengths that routes have (P8).
 func (t *Table) Lengths(family int) ([]int, api.Errno) { return nil, api.OK }
