@@ -6,6 +6,8 @@ import "waymark/api"
 const (
 	width4 = 32
 	width6 = 128
+	// MaxWidth is the greater of the two.
+	MaxWidth = width6
 	// halfWidth is how many bits Lo holds, below those of Hi.
 	halfWidth = 64
 )
@@ -23,20 +25,46 @@ func Width(family int) int {
 
 // Check tells what is wrong with a prefix: OK, if it is good.
 func Check(p api.Prefix) api.Errno {
-	width := Width(p.Addr.Family)
-	if width == 0 {
-		return api.ErrFamily
-	}
-	if p.Len < 0 || p.Len > width {
-		return api.ErrLen
-	}
-	if !fits(p.Addr) {
-		return api.ErrAddr
+	e := CheckLength(p.Addr.Family, p.Len)
+	if e != api.OK {
+		return e
 	}
 	if Cut(p.Addr, p.Len) != p.Addr {
 		return api.ErrAddr
 	}
+	return CheckAddress(p.Addr)
+}
+
+// CheckLength tells what is wrong with a length of a family: OK, if it is one.
+func CheckLength(family, length int) api.Errno {
+	width := Width(family)
+	if width == 0 {
+		return api.ErrFamily
+	}
+	if length < 0 || length > width {
+		return api.ErrLen
+	}
 	return api.OK
+}
+
+// CheckAddress tells what is wrong with an address: OK, if it is one.
+func CheckAddress(a api.Addr) api.Errno {
+	if Width(a.Family) == 0 {
+		return api.ErrFamily
+	}
+	if !fits(a) {
+		return api.ErrAddr
+	}
+	return api.OK
+}
+
+// Contains tells whether the prefix p contains the prefix q. Both are good.
+func Contains(p, q api.Prefix) bool {
+	if p.Len > q.Len {
+		return false
+	}
+	// Addresses of two families are never the same.
+	return Cut(q.Addr, p.Len) == p.Addr
 }
 
 // Cut makes all bits of an address behind the first length ones 0. The length is one of the address's family.

@@ -79,3 +79,54 @@ func TestCheckEveryLength(t *testing.T) {
 		}
 	}
 }
+
+func TestCheckLengthOfFamilies(t *testing.T) {
+	for _, c := range []struct {
+		family, length int
+		want           api.Errno
+	}{
+		{api.V4, 0, api.OK}, {api.V4, 32, api.OK}, {api.V4, -1, api.ErrLen}, {api.V4, 33, api.ErrLen}, {api.V4, 128, api.ErrLen}, {api.V4, math.MaxInt, api.ErrLen}, {api.V4, math.MinInt, api.ErrLen},
+		{api.V6, 0, api.OK}, {api.V6, 33, api.OK}, {api.V6, 128, api.OK}, {api.V6, -1, api.ErrLen}, {api.V6, 129, api.ErrLen}, {api.V6, math.MaxInt, api.ErrLen}, {api.V6, math.MinInt, api.ErrLen},
+		{0, 0, api.ErrFamily}, {5, -1, api.ErrFamily}, {-4, 999, api.ErrFamily}, {math.MaxInt, 0, api.ErrFamily}, {math.MinInt, 0, api.ErrFamily},
+	} {
+		if e := address.CheckLength(c.family, c.length); e != c.want {
+			t.Errorf("CheckLength(%d, %d) = %d, want %d", c.family, c.length, e, c.want)
+		}
+	}
+}
+
+func TestCheckAddress(t *testing.T) {
+	for _, c := range []struct {
+		a    api.Addr
+		want api.Errno
+	}{
+		{api.Addr{Family: api.V4}, api.OK}, {all(api.V4), api.OK}, {api.Addr{Family: api.V6}, api.OK}, {all(api.V6), api.OK},
+		{api.Addr{Family: api.V4, Lo: 1 << 32}, api.ErrAddr}, {api.Addr{Family: api.V4, Lo: 1 << 63}, api.ErrAddr}, {api.Addr{Family: api.V4, Hi: 1}, api.ErrAddr}, {api.Addr{Family: api.V4, Hi: 1 << 63}, api.ErrAddr},
+		{api.Addr{}, api.ErrFamily}, {api.Addr{Family: 5, Hi: 1, Lo: 1 << 32}, api.ErrFamily}, {api.Addr{Family: -6}, api.ErrFamily},
+	} {
+		if e := address.CheckAddress(c.a); e != c.want {
+			t.Errorf("CheckAddress(%+v) = %d, want %d", c.a, e, c.want)
+		}
+	}
+}
+
+func TestContainsEveryLength(t *testing.T) {
+	for _, f := range []int{api.V4, api.V6} {
+		for n := 0; n <= address.Width(f); n++ {
+			p := api.Prefix{Addr: address.Cut(all(f), n), Len: n}
+			for m := 0; m <= address.Width(f); m++ {
+				// Of the uppermost prefixes the longer ones lie in the shorter ones; of the lowest only the whole family holds any.
+				if got := address.Contains(p, api.Prefix{Addr: address.Cut(all(f), m), Len: m}); got != (n <= m) {
+					t.Errorf("family %d: length %d contains length %d: %t", f, n, m, got)
+				}
+				if got := address.Contains(p, api.Prefix{Addr: api.Addr{Family: f}, Len: m}); got != (n == 0) {
+					t.Errorf("family %d: uppermost length %d contains lowest length %d: %t", f, n, m, got)
+				}
+			}
+		}
+	}
+	four, six := api.Prefix{Addr: api.Addr{Family: api.V4}}, api.Prefix{Addr: api.Addr{Family: api.V6}}
+	if address.Contains(four, six) || address.Contains(six, four) {
+		t.Errorf("one family contains the other")
+	}
+}

@@ -62,6 +62,33 @@ func TestP1ErrorsLeaveNothingBesideThem(t *testing.T) {
 		if l, e := x.Dump(family); len(l) != 0 || e != api.ErrFamily {
 			t.Errorf("Dump(%d) = %v, %d, want none, ErrFamily", family, l, e)
 		}
+		if l, e := x.Lengths(family); len(l) != 0 || e != api.ErrFamily {
+			t.Errorf("Lengths(%d) = %v, %d, want none, ErrFamily", family, l, e)
+		}
+		checkEntriesError(t, x, family, 8, api.ErrFamily)
+		checkLookupError(t, x, api.Addr{Family: family}, api.ErrFamily)
+	}
+	checkEntriesError(t, x, api.V4, 33, api.ErrLen)
+	checkEntriesError(t, x, api.V6, 129, api.ErrLen)
+	checkLookupError(t, x, api.Addr{Family: api.V4, Lo: 1 << 32}, api.ErrAddr)
+}
+
+func TestP1QuestionErrorsChangeNothing(t *testing.T) {
+	for _, x := range []*waymark.Table{tableOfTwo(t, 1), tableOfDocument(t), tableOfBoth(t)} {
+		before := show(x)
+		for _, family := range wrongFamilies {
+			x.Lengths(family)
+			checkEntriesError(t, x, family, -1, api.ErrFamily)
+			checkLookupError(t, x, api.Addr{Family: family, Hi: 1, Lo: 1 << 32}, api.ErrFamily)
+		}
+		for _, n := range wrongLengths6 {
+			checkEntriesError(t, x, api.V4, n, api.ErrLen)
+			checkEntriesError(t, x, api.V6, n, api.ErrLen)
+		}
+		checkLookupError(t, x, api.Addr{Family: api.V4, Hi: 1}, api.ErrAddr)
+		if now := show(x); now != before {
+			t.Errorf("questions with errors made of %v this: %v", before, now)
+		}
 	}
 }
 
@@ -165,8 +192,12 @@ func TestP1EveryRouteCallEnds(t *testing.T) {
 		x := tableOfTwo(t, limit)
 		for _, family := range numbers {
 			x.Dump(family)
+			x.Lengths(family)
 			for _, length := range numbers {
+				x.Entries(family, length)
 				for _, w := range words {
+					x.Lookup(api.Addr{Family: family, Hi: w, Lo: w})
+					x.Lookup(api.Addr{Family: family, Lo: w})
 					for _, g := range []int{math.MinInt, -1, 0, 1, 2, 31, 32, math.MaxInt} {
 						r := api.Route{Prefix: prefix(family, w, w, length), Group: g}
 						x.Put(r)

@@ -2,7 +2,9 @@ package waymark_test
 
 import (
 	"fmt"
+	"math"
 	"slices"
+	"strings"
 	"testing"
 
 	"waymark/api"
@@ -105,6 +107,47 @@ func mustDump(t *testing.T, x *waymark.Table, family int, want ...string) {
 	}
 }
 
+// at: the address of a text without a length.
+func at(t *testing.T, text string) api.Addr {
+	t.Helper()
+	if strings.Contains(text, ":") {
+		return read(t, text+"/128").Addr
+	}
+	return read(t, text+"/32").Addr
+}
+
+func mustLengths(t *testing.T, x *waymark.Table, family int, want ...int) {
+	t.Helper()
+	if l, e := x.Lengths(family); !slices.Equal(l, want) || e != api.OK {
+		t.Fatalf("Lengths(%d) = %v, %d, want %v, OK", family, l, e, want)
+	}
+}
+
+// mustEntries: want are the entries as texts: address, Group, Marks and Best, as "10.1.0.0 1 1 16".
+func mustEntries(t *testing.T, x *waymark.Table, family, length int, want ...string) {
+	t.Helper()
+	l, e := x.Entries(family, length)
+	got := []string{}
+	for _, one := range l {
+		text, _, _ := strings.Cut(written(api.Prefix{Addr: one.Addr}), "/")
+		got = append(got, fmt.Sprintf("%s %d %d %d", text, one.Group, one.Marks, one.Best))
+		if one.Addr.Family != family {
+			t.Fatalf("Entries(%d, %d): an entry of the family %d", family, length, one.Addr.Family)
+		}
+	}
+	if !slices.Equal(got, want) || e != api.OK {
+		t.Fatalf("Entries(%d, %d) = %q, %d, want %q, OK", family, length, got, e, want)
+	}
+}
+
+func mustLookup(t *testing.T, x *waymark.Table, text string, length, group int, asked ...int) {
+	t.Helper()
+	f, e := x.Lookup(at(t, text))
+	if f.Len != length || f.Group != group || !slices.Equal(f.Asked, asked) || e != api.OK {
+		t.Fatalf("Lookup(%s) = %+v, %d, want %d, %d, %v, OK", text, f, e, length, group, asked)
+	}
+}
+
 // show: all that can be seen of the groups and routes of a table.
 func show(x *waymark.Table) string {
 	s := ""
@@ -115,6 +158,36 @@ func show(x *waymark.Table) string {
 	for _, family := range []int{api.V4, api.V6} {
 		l, e := x.Dump(family)
 		s += fmt.Sprintln("family", family, l, e)
+		s += showQuestions(x, family)
 	}
 	return s
+}
+
+// showQuestions: the lengths of a family, their entries, and what is found of its lowest and its uppermost address.
+func showQuestions(x *waymark.Table, family int) string {
+	lengths, e := x.Lengths(family)
+	s := fmt.Sprintln("lengths", lengths, e)
+	for _, n := range lengths {
+		l, e := x.Entries(family, n)
+		s += fmt.Sprintln("entries", n, l, e)
+	}
+	for _, a := range []api.Addr{{Family: family}, uppermost(family)} {
+		f, e := x.Lookup(a)
+		s += fmt.Sprintln("lookup", a, f, e)
+	}
+	return s
+}
+
+func uppermost(family int) api.Addr {
+	if family == api.V4 {
+		return api.Addr{Family: api.V4, Lo: math.MaxUint32}
+	}
+	return api.Addr{Family: family, Hi: math.MaxUint64, Lo: math.MaxUint64}
+}
+
+// ones: the prefix of this length whose bits are all 1.
+func ones(family, length int) api.Prefix {
+	a := uppermost(family)
+	hi, lo := cutByHand(family, a.Hi, a.Lo, length)
+	return prefix(family, hi, lo, length)
 }

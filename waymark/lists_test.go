@@ -1,19 +1,26 @@
 package waymark_test
 
 import (
+	"fmt"
+	"math/rand"
 	"slices"
+	"strings"
 	"testing"
 
 	"waymark/api"
 	"waymark/waymark"
 )
 
-// scribble writes over a list and all its spare room.
-func scribble(l []int) {
+// fill writes over a list and all its spare room.
+func fill[T any](l []T, one T) {
 	l = l[:cap(l)]
 	for i := range l {
-		l[i] = -77
+		l[i] = one
 	}
+}
+
+func scribble(l []int) {
+	fill(l, -77)
 }
 
 func TestP2ListsHandedInAreNotWrittenInto(t *testing.T) {
@@ -109,12 +116,12 @@ func TestP2NoLaterCallWritesIntoAList(t *testing.T) {
 // noRoute: what no table holds.
 var noRoute = api.Route{Prefix: prefix(-77, 77, 77, -77), Group: -77}
 
-// scribbleRoutes writes over a list and all its spare room.
 func scribbleRoutes(l []api.Route) {
-	l = l[:cap(l)]
-	for i := range l {
-		l[i] = noRoute
-	}
+	fill(l, noRoute)
+}
+
+func scribbleEntries(l []api.Entry) {
+	fill(l, api.Entry{Addr: noRoute.Prefix.Addr, Group: -77, Marks: -77, Best: -77})
 }
 
 func TestP2ChangesHandedInAreNotWrittenInto(t *testing.T) {
@@ -201,6 +208,108 @@ func TestP2NoLaterCallWritesIntoADump(t *testing.T) {
 		}
 		if show(x) != show(y) {
 			t.Errorf("the table is %v, want %v", show(x), show(y))
+		}
+	}
+}
+
+// askAndScribble asks all questions of a family, and writes over all lists that come out and behind them.
+func askAndScribble(x *waymark.Table, family int) {
+	for range 2 {
+		for n := range widthOf(family) + 1 {
+			l, _ := x.Entries(family, n)
+			scribbleEntries(l)
+			scribbleEntries(append(l, api.Entry{}))
+		}
+		routes, _ := x.Dump(family)
+		for _, r := range append(routes, api.Route{Prefix: api.Prefix{Addr: uppermost(family)}}) {
+			f, _ := x.Lookup(r.Prefix.Addr)
+			scribble(f.Asked)
+			scribble(append(f.Asked, 1))
+		}
+		l, _ := x.Lengths(family)
+		scribble(l)
+		scribble(append(l, 1))
+	}
+}
+
+func TestP2AnswersToQuestionsAreFresh(t *testing.T) {
+	for _, x := range []*waymark.Table{tableOfTwo(t, 1), tableOfRoutes(t), tableOfDocument(t), tableOfSeven(t), tableOfBoth(t)} {
+		before := show(x)
+		for _, family := range []int{api.V4, api.V6} {
+			lengths, _ := x.Lengths(family)
+			f, _ := x.Lookup(uppermost(family))
+			entries := [][]api.Entry{}
+			for _, n := range lengths {
+				l, _ := x.Entries(family, n)
+				entries = append(entries, l)
+			}
+			told := fmt.Sprint(lengths, f, entries)
+			askAndScribble(x, family)
+			if now := fmt.Sprint(lengths, f, entries); now != told {
+				t.Errorf("writing into later answers made of %v this: %v", told, now)
+			}
+			scribble(lengths)
+			scribble(f.Asked)
+			if now := fmt.Sprint(entries); !strings.HasSuffix(told, now) {
+				t.Errorf("writing into lengths made of %v this: %v", told, now)
+			}
+			for _, l := range entries {
+				scribbleEntries(l)
+			}
+		}
+		if now := show(x); now != before {
+			t.Errorf("writing into answers made of %v this: %v", before, now)
+		}
+	}
+}
+
+func TestP2NoLaterCallWritesIntoAnswers(t *testing.T) {
+	x := tableOfBoth(t)
+	for _, family := range []int{api.V4, api.V6} {
+		lengths, _ := x.Lengths(family)
+		entries, _ := x.Entries(family, lengths[len(lengths)/2])
+		f, _ := x.Lookup(uppermost(family))
+		lengths, entries, f.Asked = lengths[:cap(lengths)], entries[:cap(entries)], f.Asked[:cap(f.Asked)]
+		before := fmt.Sprint(lengths, entries, f)
+		mustPut(t, x, "10.1.0.0/16", 3)
+		mustPut(t, x, "a01:0:0:0:0:0:0:0/16", 3)
+		mustPut(t, x, "10.1.2.4/30", 0)
+		mustPut(t, x, "a01:0:0:0:0:0:0:4/126", 0)
+		askAndScribble(x, api.V4)
+		askAndScribble(x, api.V6)
+		mustBatch(t, x, take(t, "10.1.2.4/30"), take(t, "a01:0:0:0:0:0:0:4/126"))
+		mustFail(t, x, 2, api.ErrKind, take(t, "10.0.0.0/8"), take(t, "a00:0:0:0:0:0:0:0/8"), api.Change{})
+		if now := fmt.Sprint(lengths, entries, f); now != before {
+			t.Errorf("later calls made of %v this: %v", before, now)
+		}
+	}
+}
+
+// Two tables get the same changes; one is asked all the while, the other at the end alone.
+func TestP2QuestionsChangeNothing(t *testing.T) {
+	r := rand.New(rand.NewSource(2))
+	for range 20 {
+		asked, still := tableOfTwo(t, 30), tableOfTwo(t, 30)
+		for i := range 60 {
+			family := api.V4 + r.Intn(2)*2
+			one := api.Route{Prefix: drawnPrefix(r, family, []int{0, 3, 8, 9, 20, 31, 32}), Group: r.Intn(2)}
+			other := api.Route{Prefix: drawnPrefix(r, family, []int{0, 3, 8}), Group: r.Intn(2)}
+			l := []api.Change{{Kind: api.Put, Route: one}, {Kind: api.Put + i%2, Route: other}}
+			number, e := asked.Batch(l)
+			if n, f := still.Batch(l); n != number || f != e {
+				t.Fatalf("Batch = %d, %d, and in the table that was asked %d, %d", n, f, number, e)
+			}
+			first := show(asked)
+			if again := show(asked); again != first {
+				t.Fatalf("asked twice: %v, then %v", first, again)
+			}
+			askAndScribble(asked, family)
+			asked.Lookup(api.Addr{Family: 5})
+			asked.Entries(family, 999)
+			asked.Lengths(5)
+		}
+		if show(asked) != show(still) {
+			t.Fatalf("of a table that was asked: %v, of one that was not: %v", show(asked), show(still))
 		}
 	}
 }

@@ -20,11 +20,7 @@ func tableOfTwo(t *testing.T, limit int) *waymark.Table {
 }
 
 func TestP6DocumentExamples(t *testing.T) {
-	x := tableOfTwo(t, 10)
-	mustPut(t, x, "10.0.0.0/8", 0)
-	mustPut(t, x, "10.1.0.0/16", 1)
-	mustPut(t, x, "10.1.2.0/24", 0)
-	mustPut(t, x, "0.0.0.0/0", 1)
+	x := tableOfDocument(t)
 	mustDump(t, x, api.V4, "0.0.0.0/0 1", "10.0.0.0/8 0", "10.1.0.0/16 1", "10.1.2.0/24 0")
 	mustDump(t, x, api.V6)
 	mustTake(t, x, "10.1.0.0/16")
@@ -145,15 +141,10 @@ func TestP6EveryLengthIsARouteOfItsOwn(t *testing.T) {
 func TestP6UppermostAddresses(t *testing.T) {
 	x := tableOfTwo(t, 256)
 	for _, family := range []int{api.V4, api.V6} {
-		hi, lo := uint64(math.MaxUint64), uint64(math.MaxUint64)
-		if family == api.V4 {
-			hi, lo = 0, math.MaxUint32
-		}
 		want := []string{}
 		for n := range widthOf(family) + 1 {
-			h, l := cutByHand(family, hi, lo, n)
-			checkPut(t, x, api.Route{Prefix: prefix(family, h, l, n), Group: 1}, api.OK)
-			want = append(want, written(prefix(family, h, l, n))+" 1")
+			checkPut(t, x, api.Route{Prefix: ones(family, n), Group: 1}, api.OK)
+			want = append(want, written(ones(family, n))+" 1")
 		}
 		mustDump(t, x, family, want...)
 	}

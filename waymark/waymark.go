@@ -4,6 +4,7 @@ package waymark
 import (
 	"waymark/address"
 	"waymark/api"
+	"waymark/entries"
 	"waymark/groups"
 	"waymark/routes"
 	"waymark/texts"
@@ -114,13 +115,33 @@ func (t *Table) change(c api.Change) api.Errno {
 }
 
 // Lengths tells the lengths that routes have (P8).
-func (t *Table) Lengths(family int) ([]int, api.Errno) { return nil, api.OK }
+func (t *Table) Lengths(family int) ([]int, api.Errno) {
+	if address.Width(family) == 0 {
+		return nil, api.ErrFamily
+	}
+	l := t.routes.Of(family)
+	return entries.Lengths(l), api.OK
+}
 
 // Entries tells what lies at a length (P8).
-func (t *Table) Entries(family int, length int) ([]api.Entry, api.Errno) { return nil, api.OK }
+func (t *Table) Entries(family int, length int) ([]api.Entry, api.Errno) {
+	e := address.CheckLength(family, length)
+	if e != api.OK {
+		return nil, e
+	}
+	l := t.routes.Of(family)
+	return entries.At(l, length), api.OK
+}
 
 // Lookup finds the longest route that contains an address (P9).
-func (t *Table) Lookup(a api.Addr) (api.Found, api.Errno) { return api.Found{}, api.OK }
+func (t *Table) Lookup(a api.Addr) (api.Found, api.Errno) {
+	e := address.CheckAddress(a)
+	if e != api.OK {
+		return api.Found{}, e
+	}
+	l := t.routes.Of(a.Family)
+	return entries.Lookup(l, a), api.OK
+}
 
 // Pick tells by which hop a flow goes (P10).
 func (t *Table) Pick(a api.Addr, flow uint64) (int, api.Errno) { return 0, api.OK }
