@@ -38,6 +38,16 @@ func (g *Groups) Hops(group int) ([]int, api.Errno) {
 	return fresh(g.lists[group]), api.OK
 }
 
+// HopFor tells the hop of a group at the place that a number comes to, modulo how many hops there are.
+func (g *Groups) HopFor(group int, number uint64) (int, api.Errno) {
+	if !g.Has(group) {
+		return 0, api.ErrGroup
+	}
+	hops := g.lists[group]
+	place := number % uint64(len(hops))
+	return hops[place], api.OK
+}
+
 // Remove takes a group away, if there is one of this number.
 func (g *Groups) Remove(group int) {
 	if g.Has(group) {

@@ -67,10 +67,45 @@ func TestP1ErrorsLeaveNothingBesideThem(t *testing.T) {
 		}
 		checkEntriesError(t, x, family, 8, api.ErrFamily)
 		checkLookupError(t, x, api.Addr{Family: family}, api.ErrFamily)
+		checkPickError(t, x, api.Addr{Family: family}, 1, api.ErrFamily)
 	}
 	checkEntriesError(t, x, api.V4, 33, api.ErrLen)
 	checkEntriesError(t, x, api.V6, 129, api.ErrLen)
 	checkLookupError(t, x, api.Addr{Family: api.V4, Lo: 1 << 32}, api.ErrAddr)
+	checkPickError(t, x, api.Addr{Family: api.V4, Lo: 1 << 32}, 1, api.ErrAddr)
+	checkPickError(t, x, at(t, "11.0.0.0"), 1, api.ErrRoute)
+}
+
+// P1's order for Pick: family, address, route.
+func TestP1PickErrorsInTheirOrder(t *testing.T) {
+	for _, x := range []*waymark.Table{tableOfTwo(t, 1), tableOfHops(t, 1, 5, 6)} {
+		checkPickError(t, x, api.Addr{Family: 5, Hi: 1, Lo: math.MaxUint64}, 1, api.ErrFamily)
+		checkPickError(t, x, api.Addr{Family: api.V4, Hi: 1, Lo: math.MaxUint64}, 1, api.ErrAddr)
+	}
+	checkPickError(t, tableOfTwo(t, 1), api.Addr{Family: api.V6, Hi: 1, Lo: math.MaxUint64}, 1, api.ErrRoute)
+}
+
+// Where no reason is named, no hop told or nothing goes out, there are noughts, though the packet's route has a hop.
+func TestP1VerdictsLeaveNothingBesideThem(t *testing.T) {
+	x := forwarder(t, 1)
+	for rules := range 512 {
+		v := x.Forward(faulty(rules))
+		if (v.Reason == api.NoReason) != (v.Kind == api.Delivered || v.Kind == api.Forwarded) {
+			t.Errorf("the reason of %+v", v)
+		}
+		if v.Kind == api.Forwarded && v.Hop != 7 || v.Kind != api.Forwarded && v.Hop != 0 {
+			t.Errorf("the hop of %+v", v)
+		}
+		if (v.Out == "") != (v.Kind == api.Dropped) {
+			t.Errorf("what goes out of %+v", v)
+		}
+	}
+	for i, p := range lost() {
+		p.part = 1
+		if v := x.Forward(p.made()); v != dropped([]int{api.NoRoute, api.Expired}[i]) {
+			t.Errorf("of a part: %+v", v)
+		}
+	}
 }
 
 func TestP1QuestionErrorsChangeNothing(t *testing.T) {
@@ -86,6 +121,11 @@ func TestP1QuestionErrorsChangeNothing(t *testing.T) {
 			checkEntriesError(t, x, api.V6, n, api.ErrLen)
 		}
 		checkLookupError(t, x, api.Addr{Family: api.V4, Hi: 1}, api.ErrAddr)
+		checkPickError(t, x, api.Addr{Family: 5}, 1, api.ErrFamily)
+		checkPickError(t, x, api.Addr{Family: api.V4, Hi: 1}, 1, api.ErrAddr)
+		for rules := range 512 {
+			x.Forward(faulty(rules))
+		}
 		if now := show(x); now != before {
 			t.Errorf("questions with errors made of %v this: %v", before, now)
 		}
@@ -198,6 +238,8 @@ func TestP1EveryRouteCallEnds(t *testing.T) {
 				for _, w := range words {
 					x.Lookup(api.Addr{Family: family, Hi: w, Lo: w})
 					x.Lookup(api.Addr{Family: family, Lo: w})
+					x.Pick(api.Addr{Family: family, Hi: w, Lo: w}, w)
+					x.Pick(api.Addr{Family: family, Lo: w}, ^w)
 					for _, g := range []int{math.MinInt, -1, 0, 1, 2, 31, 32, math.MaxInt} {
 						r := api.Route{Prefix: prefix(family, w, w, length), Group: g}
 						x.Put(r)
@@ -243,5 +285,12 @@ func TestP1EveryCallEnds(t *testing.T) {
 	}
 	for _, n := range []int{0, 1, 7, 8, 9, 1000, 1 << 22} {
 		x.Group(make([]int, n))
+	}
+	for _, y := range []*waymark.Table{x, newTable(t, 1), tableOfHops(t, math.MaxUint64, 0, 1)} {
+		for _, text := range texts {
+			y.Forward(text)
+			y.Forward(common.made() + text)
+			y.Forward("\x45" + text)
+		}
 	}
 }

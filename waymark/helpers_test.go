@@ -148,6 +148,9 @@ func mustLookup(t *testing.T, x *waymark.Table, text string, length, group int, 
 	}
 }
 
+// shown: packets that show asks for.
+var shown = []string{common.made(), lost()[0].made(), lost()[1].made()}
+
 // show: all that can be seen of the groups and routes of a table.
 func show(x *waymark.Table) string {
 	s := ""
@@ -160,10 +163,13 @@ func show(x *waymark.Table) string {
 		s += fmt.Sprintln("family", family, l, e)
 		s += showQuestions(x, family)
 	}
+	for _, packet := range shown {
+		s += fmt.Sprintf("forward %+x\n", x.Forward(packet))
+	}
 	return s
 }
 
-// showQuestions: the lengths of a family, their entries, and what is found of its lowest and its uppermost address.
+// showQuestions: the lengths of a family, their entries, and what is found and picked of its lowest and its uppermost address.
 func showQuestions(x *waymark.Table, family int) string {
 	lengths, e := x.Lengths(family)
 	s := fmt.Sprintln("lengths", lengths, e)
@@ -174,6 +180,9 @@ func showQuestions(x *waymark.Table, family int) string {
 	for _, a := range []api.Addr{{Family: family}, uppermost(family)} {
 		f, e := x.Lookup(a)
 		s += fmt.Sprintln("lookup", a, f, e)
+		first, e := x.Pick(a, 0)
+		last, _ := x.Pick(a, math.MaxUint64)
+		s += fmt.Sprintln("pick", a, first, last, e)
 	}
 	return s
 }

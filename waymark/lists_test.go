@@ -225,6 +225,10 @@ func askAndScribble(x *waymark.Table, family int) {
 			f, _ := x.Lookup(r.Prefix.Addr)
 			scribble(f.Asked)
 			scribble(append(f.Asked, 1))
+			x.Pick(r.Prefix.Addr, uint64(r.Group))
+			p := common
+			p.target = uint32(r.Prefix.Addr.Lo)
+			x.Forward(p.made())
 		}
 		l, _ := x.Lengths(family)
 		scribble(l)
@@ -307,9 +311,76 @@ func TestP2QuestionsChangeNothing(t *testing.T) {
 			asked.Lookup(api.Addr{Family: 5})
 			asked.Entries(family, 999)
 			asked.Lengths(5)
+			asked.Pick(api.Addr{Family: 5}, 1)
+			asked.Forward("no packet")
 		}
 		if show(asked) != show(still) {
 			t.Fatalf("of a table that was asked: %v, of one that was not: %v", show(asked), show(still))
+		}
+	}
+}
+
+// Tables of other seeds and own addresses get the same calls by turns; then each tells what it tells when it is alone.
+func TestP2SeedsAndOwnAddressesAreATablesOwn(t *testing.T) {
+	r := rand.New(rand.NewSource(15))
+	packets, picked := []string{}, []uint64{}
+	for range 300 {
+		packets = append(packets, drawnPacket(r))
+		p := lost()[r.Intn(2)]
+		p.target, p.id = p.target+uint32(r.Intn(2))<<24, r.Intn(65536)
+		packets = append(packets, p.made())
+		picked = append(picked, r.Uint64())
+	}
+	ask := func(x *waymark.Table, i int) string {
+		h, e := x.Pick(at(t, "11.2.3.4"), picked[i])
+		return fmt.Sprintln(h, e, x.Forward(packets[2*i]), x.Forward(packets[2*i+1]))
+	}
+	seeded := func(n uint64) *waymark.Table {
+		x := seededTable(t, n*0x9e3779b97f4a7c15, uint32(n*0x01010101))
+		mustGroup(t, x, 0, 7)
+		mustGroup(t, x, 1, 0, 1, 2, 3, 4, 5, 6, 7)
+		mustPut(t, x, "10.0.0.0/8", 0)
+		mustPut(t, x, "11.0.0.0/8", 1)
+		return x
+	}
+	tables, together := []*waymark.Table{seeded(0), seeded(1), seeded(2), seeded(3)}, [4]string{}
+	for i := range picked {
+		for n, x := range tables {
+			together[n] += ask(x, i)
+		}
+	}
+	for n, told := range together {
+		alone, x := "", seeded(uint64(n))
+		for i := range picked {
+			alone += ask(x, i)
+		}
+		if alone != told {
+			t.Errorf("table %d tells alone %q, beside others %q", n, alone, told)
+		}
+		if n > 0 && told == together[0] {
+			t.Errorf("the tables 0 and %d tell the same", n)
+		}
+	}
+}
+
+// A packet that is asked twice, or behind many others, or behind none, has one verdict.
+func TestP2VerdictsHangOnNoOtherPackets(t *testing.T) {
+	r := rand.New(rand.NewSource(16))
+	x := forwarder(t, 9)
+	packets, told := []string{}, []api.Verdict{}
+	for range 2000 {
+		s := drawnPacket(r)
+		packets = append(packets, s)
+		told = append(told, x.Forward(s))
+		x.mustJudge(t, s, told[len(told)-1])
+	}
+	for _, i := range r.Perm(len(packets)) {
+		x.mustJudge(t, packets[i], told[i])
+		forwarder(t, 9).mustJudge(t, packets[i], told[i])
+	}
+	for range 3 {
+		for _, flow := range flows {
+			mustPick(t, x.Table, "11.2.3.4", flow, []int{1, 2, 3, 0, 5, 65535, 7, 8}[mixedByHand(flow^9)%8])
 		}
 	}
 }

@@ -6,6 +6,8 @@ import (
 	"waymark/api"
 	"waymark/entries"
 	"waymark/groups"
+	"waymark/mixing"
+	"waymark/packets"
 	"waymark/routes"
 	"waymark/texts"
 )
@@ -144,7 +146,44 @@ func (t *Table) Lookup(a api.Addr) (api.Found, api.Errno) {
 }
 
 // Pick tells by which hop a flow goes (P10).
-func (t *Table) Pick(a api.Addr, flow uint64) (int, api.Errno) { return 0, api.OK }
+func (t *Table) Pick(a api.Addr, flow uint64) (int, api.Errno) {
+	found, e := t.Lookup(a)
+	if e != api.OK {
+		return 0, e
+	}
+	if found.Group == api.None {
+		return 0, api.ErrRoute
+	}
+	mixed := mixing.Mix(flow ^ t.seed)
+	return t.groups.HopFor(found.Group, mixed)
+}
 
 // Forward tells what becomes of a packet (P11).
-func (t *Table) Forward(packet string) api.Verdict { return api.Verdict{} }
+func (t *Table) Forward(packet string) api.Verdict {
+	p, reason := packets.Read(packet)
+	if reason != api.NoReason {
+		return api.Verdict{Kind: api.Dropped, Reason: reason}
+	}
+	target := p.Target()
+	flow := p.Flow()
+	hop, e := t.Pick(target, flow)
+	// The target is an address: that no route contains it is the one error there can be.
+	if e != api.OK {
+		return t.sendBack(p, api.NoRoute)
+	}
+	if hop == 0 {
+		return api.Verdict{Kind: api.Delivered, Out: p.Text()}
+	}
+	if !p.CanGoOn() {
+		return t.sendBack(p, api.Expired)
+	}
+	return api.Verdict{Kind: api.Forwarded, Hop: hop, Out: p.Older()}
+}
+
+// sendBack answers a packet that can't go on, or drops it, if it may not be answered.
+func (t *Table) sendBack(p packets.Packet, reason int) api.Verdict {
+	if !p.MayBeAnswered() {
+		return api.Verdict{Kind: api.Dropped, Reason: reason}
+	}
+	return api.Verdict{Kind: api.Answered, Reason: reason, Out: p.Answer(t.own, reason)}
+}
